@@ -1,0 +1,1 @@
+"""Faceabout: rows of waggons, turned about in stretches."""
