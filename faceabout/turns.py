@@ -1,17 +1,13 @@
 """Turnings of rows, alone and one after another."""
 
-from faceabout.checks import is_whole
+from faceabout.checks import is_stretch, is_whole
 from faceabout.errors import BadNumber, BadTurn, OtherLength
 from faceabout.rows import MOST_WAGGONS, Row
 
 
 def is_turning(row, value):
     """Whether any value is a turning of the row."""
-    if not isinstance(value, tuple) or len(value) != 2:
-        return False
-    first, last = value
-    behind = len(row) - 1
-    return is_whole(first, 0, behind) and is_whole(last, first, behind)
+    return is_stretch(value, len(row) - 1)
 
 
 def turned(row, turning):

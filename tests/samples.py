@@ -1,4 +1,4 @@
-"""Values and rows that several tests ask for."""
+"""Values, rows and checks that several tests ask for."""
 
 from itertools import permutations, product
 
@@ -48,3 +48,50 @@ def long_waggons(many):
     step = next(step for step in (7, 5, 11, 1) if many % step or step == 1)
     numbers = [place * step % many + 1 for place in range(many)]
     return [-number if number % 3 == 0 else number for number in numbers]
+
+
+def no_turnings(many):
+    """Values of every kind that are no turnings of rows of so many waggons."""
+    found = [value for value in no_integers() if value != (0, 1) or many < 2]
+    found += [Agreeable(), 0, 1, -1, HUGE, -HUGE, "0-1"]
+    found += [(), (0,), (0, 0, 0), [0, 0], [0, 1], ([0, 0],), ((0, 0),), {0: 0, 1: 1}]
+    found += [((0, 0), (0, 0)), ([0], [0]), (None, None), ("0", "0"), (0, None), (None, 0), (True, 0), (0, True)]
+    found += [(False, False), (False, 0), (0, False), (False, True), (1, True), (0, Agreeable()), (Agreeable(), 0)]
+    found += [(many, many), (0, many), (-1, 0), (-1, -1), (-1, many), (many - 1, many), (-many, 0), (1, 0)]
+    found += [(many - 1, many - 2), (0, HUGE), (-HUGE, 0), (HUGE, HUGE), (-HUGE, -HUGE), (-HUGE, HUGE), (HUGE, 0)]
+    return found
+
+
+def refused(case, error, field, value, call, *told, **named):
+    """Checks that a call raises just this error, with the very value in its field."""
+    with case.assertRaises(error) as caught:
+        call(*told, **named)
+    case.assertIs(type(caught.exception), error)
+    if field is not None:
+        got = getattr(caught.exception, field)
+        if type(value) is int:
+            case.assertIs(type(got), int)
+            case.assertEqual(got, value)
+        else:
+            case.assertIs(got, value)
+
+
+def no_parts(row, known):
+    """Values of every kind that are none of the known parts of a row."""
+    behind = len(row) + 1
+    found = [value for value in no_integers() if not isinstance(value, tuple)] + [0, 1, -1, HUGE, -HUGE, "0-1"]
+    found += [(), (0,), (0, 1, 2), (None, None), (0, None), ("0", "1"), (0, Agreeable()), (Agreeable(), 1)]
+    found += [(Agreeable(), Agreeable()), ((0, 1),), ([0, 1],), (0, HUGE), (-HUGE, HUGE), (HUGE, HUGE), (-HUGE, 0)]
+    found += [(0, behind + 1), (-1, behind), (behind, behind + 1), (-1, 0), (-1, 1), (-2, -1), known, list(known)]
+    for first, last in known:
+        found += [[first, last], (last, first), (first, last, last), (first, [last]), ((first, last),), {first: last}]
+        found += [f"{first}-{last}", (first, str(last)), (str(first), last), (-first - 1, last), (first, None)]
+        found += [(bool(first), last)] if first < 2 else []
+        found += [(first, True)] if last == 1 else []
+    found += [(first, last) for first in range(behind + 1) for last in range(behind + 1) if (first, last) not in known]
+    return found
+
+
+def plain(value):
+    """Whether a value is an integer, or a tuple of integers and such tuples: no list, no True or False."""
+    return type(value) is int or type(value) is tuple and all(plain(item) for item in value)

@@ -87,6 +87,14 @@ class Language(unittest.TestCase):
                 if isinstance(node.value, str):
                     self.assertNotIn("%", node.value, name)
 
+    def test_what_rows_with_equality_rule_out(self):
+        listed = ("any", "all", "min", "max", "sum", "sorted")
+        for name, node in self.nodes():
+            if isinstance(node, ast.Call) and isinstance(node.func, ast.Name) and node.func.id in listed:
+                self.assertEqual([arg for arg in node.args if isinstance(arg, ast.GeneratorExp)], [], name)
+            if isinstance(node, ast.Attribute):
+                self.assertNotEqual(node.attr, "sort", name)
+
     def test_names(self):
         for name, node in self.nodes():
             for bound in names_bound(node):

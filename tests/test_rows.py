@@ -6,23 +6,9 @@ import unittest
 from faceabout import errors, rows
 from faceabout.rows import MOST_WAGGONS, Row, onward, renamed, seen
 from tests.samples import (
-    HUGE, Agreeable, all_waggons, integers_outside, long_waggons, no_integers, small_rows)
+    HUGE, Agreeable, all_waggons, integers_outside, long_waggons, no_integers, refused, small_rows)
 
 LENGTHS = (0, 1, 2, 3, 12, 23, 24)
-
-
-def refused(case, error, field, value, call, *told, **named):
-    """Checks that a call raises just this error, with the very value in its field."""
-    with case.assertRaises(error) as caught:
-        call(*told, **named)
-    case.assertIs(type(caught.exception), error)
-    if field is not None:
-        got = getattr(caught.exception, field)
-        if type(value) is int:
-            case.assertIs(type(got), int)
-            case.assertEqual(got, value)
-        else:
-            case.assertIs(got, value)
 
 
 class Making(unittest.TestCase):

@@ -5,8 +5,8 @@ import unittest
 from faceabout import errors
 from faceabout.rows import Row, onward
 from faceabout.turns import is_turning, run, turned, turning_between, turnings_of
-from tests.samples import HUGE, Agreeable, all_waggons, integers_outside, long_waggons, no_integers, small_rows
-from tests.test_rows import refused
+from tests.samples import (
+    HUGE, all_waggons, integers_outside, long_waggons, no_integers, no_turnings, refused, small_rows)
 
 LENGTHS = (0, 1, 2, 3, 12, 23, 24)
 
@@ -17,18 +17,6 @@ def turned_slowly(waggons, first, last):
     for place in range(first, last + 1):
         behind[first + last - place] = -waggons[place]
     return tuple(behind)
-
-
-def no_turnings(many):
-    """Values of every kind that are no turnings of rows of so many waggons."""
-    found = [value for value in no_integers() if value != (0, 1) or many < 2]
-    found += [Agreeable(), 0, 1, -1, HUGE, -HUGE, "0-1"]
-    found += [(), (0,), (0, 0, 0), [0, 0], [0, 1], ([0, 0],), ((0, 0),), {0: 0, 1: 1}]
-    found += [((0, 0), (0, 0)), ([0], [0]), (None, None), ("0", "0"), (0, None), (None, 0), (True, 0), (0, True)]
-    found += [(False, False), (False, 0), (0, False), (False, True), (1, True), (0, Agreeable()), (Agreeable(), 0)]
-    found += [(many, many), (0, many), (-1, 0), (-1, -1), (-1, many), (many - 1, many), (-many, 0), (1, 0)]
-    found += [(many - 1, many - 2), (0, HUGE), (-HUGE, 0), (HUGE, HUGE), (-HUGE, -HUGE), (-HUGE, HUGE), (HUGE, 0)]
-    return found
 
 
 class IsTurning(unittest.TestCase):
