@@ -84,9 +84,14 @@ def is_alone(nodes, needed):
     return len([node for node in nodes if node in needed]) == 1
 
 
+def rings_lack(row):
+    """How many rings more the row onward has."""
+    return len(row) + 1 - many_rings(row)
+
+
 def to_go(row):
     """The fewest turnings that lead to the row onward."""
-    return len(row) + 1 - many_rings(row) + cost(row)
+    return rings_lack(row) + cost(row)
 
 
 def distance(one, other):
@@ -96,26 +101,34 @@ def distance(one, other):
 
 def bound(one, other):
     """n + 1 less the rings of the row one, seen from other."""
-    return len(one) + 1 - many_rings(seen(one, other))
+    return rings_lack(seen(one, other))
 
 
-def seen_within_most(one, other):
-    """The row one, seen from other, if it is no longer than those that are led."""
+def seen_within(one, other, most):
+    """The row one, seen from other, if it has at most so many waggons."""
     row = seen(one, other)
-    if len(row) > MOST_LED:
-        raise TooGreat(MOST_LED)
+    if len(row) > most:
+        raise TooGreat(most)
     return row
 
 
 def leads_nearer(row, turning, left):
     """Whether fewer turnings than so many are left behind a turning."""
-    return to_go(turned(row, turning)) < left
+    behind = turned(row, turning)
+    # The rings alone refuse most turnings, and are told sooner than the cost.
+    return rings_lack(behind) < left and to_go(behind) < left
+
+
+def nearer_turns(row):
+    """An ascending tuple of all turnings behind which fewer are left to the row onward."""
+    left = to_go(row)
+    return tuple([turning for turning in turnings_of(len(row)) if leads_nearer(row, turning, left)])
 
 
 def fewest(one, other):
     """A tuple of as few turnings as can be that leads from the one to the other."""
     # Turnings turn places, so that the same ones lead the row that is seen to the row onward.
-    row = seen_within_most(one, other)
+    row = seen_within(one, other, MOST_LED)
     left = to_go(row)
     found = []
     while left > 0:
@@ -136,6 +149,4 @@ def first_nearer(row, left):
 
 def first_turns(one, other):
     """An ascending tuple of all turnings with which a fewest row of turnings can begin."""
-    row = seen_within_most(one, other)
-    left = to_go(row)
-    return tuple([turning for turning in turnings_of(len(row)) if leads_nearer(row, turning, left)])
+    return nearer_turns(seen_within(one, other, MOST_LED))

@@ -32,6 +32,18 @@ def run(row, turnings):
     return now
 
 
+def leads(one, other, value, many):
+    """Whether any value is a tuple of so many turnings that lead from the one row to the other."""
+    if not isinstance(value, tuple) or len(value) != many:
+        return False
+    now = one
+    for turning in value:
+        if not is_turning(now, turning):
+            return False
+        now = turned(now, turning)
+    return now == other
+
+
 def turnings_of(many):
     """An ascending tuple of all turnings of rows of so many waggons."""
     if not is_whole(many, 0, MOST_WAGGONS):

@@ -32,6 +32,35 @@ def layers(start):
     return met
 
 
+@lru_cache(maxsize=None)
+def walked(many):
+    """The layers of a walk from the row onward."""
+    return layers(tuple(range(1, many + 1)))
+
+
+def nearer_by_walking(waggons, met):
+    """All turnings that lead to a nearer layer, ascending, each with the waggons behind it."""
+    steps = [(turning, turned_waggons(waggons, turning)) for turning in all_turnings(len(waggons))]
+    return [(turning, behind) for turning, behind in steps if met[behind] < met[waggons]]
+
+
+def ways_by_walking(waggons, met):
+    """Point 40: all fewest rows of turnings to the row from which the layers were walked, ascending."""
+    if met[waggons] == 0:
+        return [()]
+    return [
+        (turning, *way) for turning, behind in nearer_by_walking(waggons, met)
+        for way in ways_by_walking(behind, met)]
+
+
+def counts_by_walking(met):
+    """How many rows of turnings are fewest from each row to the one from which the layers were walked."""
+    counts = {}
+    for waggons in sorted(met, key=met.get):
+        counts[waggons] = sum(counts[behind] for _, behind in nearer_by_walking(waggons, met)) or 1
+    return counts
+
+
 def framed(waggons):
     return (0, *waggons, len(waggons) + 1)
 

@@ -2,7 +2,6 @@
 
 import random
 import unittest
-from functools import lru_cache
 
 from faceabout import errors, fewest
 from faceabout.closed import unfaced
@@ -10,57 +9,10 @@ from faceabout.fewest import bound, distance, first_turns, to_go
 from faceabout.rings import change, many_rings
 from faceabout.rows import Row, onward, renamed, seen
 from faceabout.turns import is_turning, run, turned, turnings_of
-from tests.looks import all_turnings, layers, rings_by_joining, turned_waggons
+from tests.looks import all_turnings, layers, rings_by_joining, turned_waggons, walked
+from tests.pairs import led_rows, long_pairs
 from tests.samples import all_waggons, plain, refused
-from tests.yard import (
-    BACK, NONE, U, WIDE, all_back, beside, drawn, drawn_mostly_onward, drawn_nested, few_waggons, filled,
-    long_branch, many_kinds)
-
-LENGTHS = (0, 1, 2, 5, 9, 10, 11, 17, 23, 24)
-
-
-@lru_cache(maxsize=None)
-def walked(many):
-    """The layers of the tests' own walk from the row onward."""
-    return layers(tuple(range(1, many + 1)))
-
-
-def composed(most):
-    """Rows of just so many waggons, in which parts lie beside and within each other."""
-    found = []
-    for seed in range(6):
-        waggons = drawn_nested(seed, most)
-        found.append(beside(waggons, *[NONE] * (most - len(waggons))))
-    return found
-
-
-def led_rows():
-    """Pairs of rows of up to ten waggons."""
-    pairs = []
-    for many in range(11):
-        row = tuple(range(1, many + 1))
-        pairs += [(row, row), (row, row[::-1]), (tuple(range(-many, 0)), row), (row[::-1], tuple(range(-many, 0)))]
-        pairs += [(drawn(5, many), drawn(6, many)), (drawn(7, many, backs=False), row)]
-        pairs += [(drawn_mostly_onward(8, many), row), (row, drawn_mostly_onward(9, many))]
-        pairs += [(drawn(seed, many), waggons) for seed, waggons in enumerate(composed(many)) if many > 3]
-        pairs += [(waggons, row) for waggons in composed(many) if many > 3]
-    for waggons in (beside(U, U, U), beside(U, long_branch()), long_branch(long_branch()), all_back(beside(U, U))):
-        pairs.append((waggons, tuple(range(1, len(waggons) + 1))))
-    return [(Row(one), Row(other)) for one, other in pairs]
-
-
-def long_pairs():
-    """Pairs of rows of up to 24 waggons, like ones and such that are near each other among them."""
-    pairs = []
-    for many in LENGTHS:
-        pairs += [(drawn(1, many), drawn(2, many)), (drawn(3, many, backs=False), drawn(4, many, backs=False))]
-        pairs += [(drawn(1, many), drawn(1, many)), (tuple(range(1, many + 1)), tuple(range(-many, 0)))]
-        if many > 4:
-            for waggons in composed(many):
-                names = Row(drawn(5, many))
-                pairs.append((waggons, tuple(range(1, many + 1))))
-                pairs.append((renamed(Row(waggons), names).waggons, names.waggons))
-    return [(Row(one), Row(other)) for one, other in pairs]
+from tests.yard import BACK, NONE, U, WIDE, beside, drawn, drawn_mostly_onward, few_waggons, filled, many_kinds
 
 
 class Layers(unittest.TestCase):
