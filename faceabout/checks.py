@@ -7,9 +7,11 @@ def is_whole(value, least, most):
     return isinstance(value, int) and not isinstance(value, bool) and least <= value <= most
 
 
+def is_pair(value, most):
+    """Whether any value is a pair of integers from 0 to most."""
+    return isinstance(value, tuple) and len(value) == 2 and all([is_whole(item, 0, most) for item in value])
+
+
 def is_stretch(value, most):
     """Whether any value is a pair of integers from 0 to most, the greater one not first."""
-    if not isinstance(value, tuple) or len(value) != 2:
-        return False
-    first, last = value
-    return is_whole(first, 0, most) and is_whole(last, first, most)
+    return is_pair(value, most) and value[0] <= value[1]

@@ -128,14 +128,17 @@ def nearer_turns(row):
 def fewest(one, other):
     """A tuple of as few turnings as can be that leads from the one to the other."""
     # Turnings turn places, so that the same ones lead the row that is seen to the row onward.
-    row = seen_within(one, other, MOST_LED)
-    left = to_go(row)
+    return turnings_onward(seen_within(one, other, MOST_LED))
+
+
+def turnings_onward(row):
+    """A tuple of as few turnings as can be that leads to the row onward."""
+    now = row
     found = []
-    while left > 0:
-        turning = first_nearer(row, left)
+    for left in range(to_go(row), 0, -1):
+        turning = first_nearer(now, left)
         found.append(turning)
-        row = turned(row, turning)
-        left = left - 1
+        now = turned(now, turning)
     return tuple(found)
 
 

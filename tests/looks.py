@@ -32,6 +32,62 @@ def layers(start):
     return met
 
 
+def about(waggons):
+    """The waggons, turned about as a whole."""
+    return tuple(-waggon for waggon in waggons[::-1])
+
+
+def layers_freed(start):
+    """Point 41: as layers, where a row and that turned about as a whole are in one layer."""
+    met = {start: 0, about(start): 0}
+    edge = list(met)
+    while edge:
+        nearer, edge = edge, []
+        for waggons in nearer:
+            for turning in all_turnings(len(start)):
+                behind = turned_waggons(waggons, turning)
+                for each in (behind, about(behind)):
+                    if each not in met:
+                        met[each] = met[waggons] + 1
+                        edge.append(each)
+    return met
+
+
+def stored_waggons(waggons):
+    """Point 42: the only one of all rows that go around a circle that begins with waggon 1, facing on."""
+    gone = [way[at:] + way[:at] for way in (tuple(waggons), about(tuple(waggons))) for at in range(len(waggons))]
+    [found] = {each for each in gone if each[0] == 1}
+    return found
+
+
+def turned_arc(stored, arc):
+    """Point 42: the circle that is turned at an arc, waggon by waggon where they stand."""
+    first, last = arc
+    places = [first]
+    while places[-1] != last:
+        places.append((places[-1] + 1) % len(stored))
+    behind = list(stored)
+    for place, other in zip(places, places[::-1]):
+        behind[place] = -stored[other]
+    return stored_waggons(behind)
+
+
+def layers_around(start):
+    """All circles as long as this one, each with the layer in which a walk over all arcs meets it."""
+    met = {start: 0}
+    edge = [start]
+    arcs = [(first, last) for first in range(len(start)) for last in range(len(start))]
+    while edge:
+        nearer, edge = edge, []
+        for stored in nearer:
+            for arc in arcs:
+                behind = turned_arc(stored, arc)
+                if behind not in met:
+                    met[behind] = met[stored] + 1
+                    edge.append(behind)
+    return met
+
+
 @lru_cache(maxsize=None)
 def walked(many):
     """The layers of a walk from the row onward."""

@@ -113,6 +113,41 @@ class Language(unittest.TestCase):
                 if isinstance(node, ast.Name):
                     self.assertIn(node.id, known, name)
 
+    def test_generators_have_names_of_their_own_and_are_iterated_at_once(self):
+        made = [node.name for _, node in self.nodes() if isinstance(node, ast.FunctionDef)]
+        yielding = [
+            node.name for _, node in self.nodes() if isinstance(node, ast.FunctionDef)
+            and any(isinstance(inner, (ast.Yield, ast.YieldFrom)) for inner in ast.walk(node))]
+        self.assertEqual(sorted(yielding), ["rows_of", "ways"])
+        for name in yielding:
+            self.assertEqual(made.count(name), 1)
+        called = [node for _, node in self.nodes() if isinstance(node, ast.Call)]
+        listed = [arg for node in called if ast.unparse(node.func) == "list" for arg in node.args]
+        for node in called:
+            if ast.unparse(node.func) in yielding:
+                self.assertIn(node, listed)
+
+    def test_no_name_is_a_method_and_an_attribute(self):
+        methods, attributes, read = set(), set(), set()
+        for _, node in self.nodes():
+            if isinstance(node, ast.ClassDef):
+                methods.update(each.name for each in node.body if isinstance(each, ast.FunctionDef))
+            if isinstance(node, ast.Attribute):
+                (read if isinstance(node.ctx, ast.Load) else attributes).add(node.attr)
+        builtin = {name for kind in (str, int, bytes, list, dict, set, tuple) for name in dir(kind)}
+        self.assertEqual(methods & attributes, set())
+        self.assertEqual((methods | attributes) & builtin - METHODS, set())
+        self.assertEqual(read - methods - attributes - builtin, set())
+
+    def test_with_only_over_trials_that_put_attributes_back(self):
+        for name, node in self.nodes():
+            if isinstance(node, ast.FunctionDef) and node.name == "__exit__":
+                self.assertEqual([arg.arg for arg in node.args.args], ["self", "kind", "value", "trace"])
+                for row in node.body:
+                    self.assertIsInstance(row, ast.Assign)
+                    self.assertIsInstance(row.value, ast.Attribute)
+                    self.assertEqual([type(target) for target in row.targets], [ast.Attribute])
+
     def test_no_local_name_of_an_import_or_a_class(self):
         for name, text in texts().items():
             tree = ast.parse(text)

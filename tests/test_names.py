@@ -1,16 +1,17 @@
-"""Promise 4 of the third stage: arguments passed by position and by name, in any order."""
+"""Promise 4 of the third stage and promise 14 of the fourth: arguments by position and by name, in any order."""
 
 import inspect
 import types
 import unittest
 from itertools import permutations
 
-from faceabout import closed, counts, errors, fewest, papers, rings, rows, turns, ways
+from faceabout import bench, circles, closed, counts, errors, fewest, freed, papers, rings, rows, texts, turns, ways
 from faceabout.rows import Row
 
 ROW = Row([3, -1, 2, 5, 4])
 OTHER = Row([-2, 1, 3, 4, 5])
 WAY = ways.way_at(ROW, OTHER, 3)
+CIRCLE = circles.Circle([3, -1, 2, 5, 4])
 
 # Each function, class and method of the interface that takes arguments, with valid ones by name.
 CALLS = [
@@ -59,9 +60,37 @@ CALLS = [
     (ways.ways, {"one": ROW, "other": OTHER}),
     (ways.way_at, {"one": ROW, "other": OTHER, "number": 3}),
     (ways.way_number, {"one": ROW, "other": OTHER, "value": WAY}),
+    (freed.free_distance, {"one": ROW, "other": OTHER}),
+    (freed.free_way, {"one": ROW, "other": OTHER}),
+    (freed.is_free_way, {"one": ROW, "other": OTHER, "value": freed.free_way(ROW, OTHER)}),
+    (circles.Circle, {"waggons": [3, -1, 2]}),
+    (CIRCLE.turned_at, {"arc": (3, 1)}),
+    (CIRCLE.run, {"arcs": [(3, 1), (2, 2)]}),
+    (CIRCLE.distance, {"other": circles.Circle([1, 2, 3, 4, 5])}),
+    (CIRCLE.fewest, {"other": circles.Circle([1, 2, 3, 4, 5])}),
+    (texts.row_text, {"row": ROW}),
+    (texts.turns_text, {"turnings": [(0, 2), (10, 99)]}),
+    (texts.read_row, {"text": "+2 -1"}),
+    (texts.read_turns, {"text": "0-2, 10-99"}),
+    (texts.picture, {"row": ROW}),
+    (bench.Bench, {"row": ROW, "goal": OTHER}),
+    (bench.tried, {"bench": bench.Bench(ROW, OTHER), "function": lambda same: same.do((0, 3))}),
 ]
 # Those that take none.
-WITHOUT = [errors.FaceError, errors.OtherLength, errors.NothingLeft, ROW.backs, ROW.framed, ROW.inverse, ROW.backward]
+WITHOUT = [
+    errors.FaceError, errors.OtherLength, errors.NothingLeft, ROW.backs, ROW.framed, ROW.inverse, ROW.backward,
+    CIRCLE.rest]
+# The methods of a bench, which change it.
+OF_BENCH = [("do", {"turning": (0, 3)}), ("do_all", {"turnings": [(0, 3), (1, 1)]})]
+OF_BENCH_WITHOUT = ["undo", "redo", "left", "wasted", "turnings", "trial"]
+
+
+def new_bench():
+    """A bench with a turning that stands and one that was taken back."""
+    made = bench.Bench(ROW, OTHER)
+    made.do_all([(1, 2), (0, 4)])
+    made.undo()
+    return made
 
 
 def told(value):
@@ -107,8 +136,27 @@ class Names(unittest.TestCase):
         for made in WITHOUT[:3]:
             self.assertEqual(vars(made()), {})
 
+    def test_methods_of_a_bench(self):
+        for name, named in OF_BENCH:
+            self.assertEqual(list(inspect.signature(getattr(bench.Bench, name)).parameters), ["self", *named])
+            one, other = new_bench(), new_bench()
+            self.assertEqual(getattr(one, name)(*named.values()), getattr(other, name)(**named))
+            self.assertEqual(one, other)
+            self.assertEqual((one.row, one.turnings()), (other.row, other.turnings()))
+            for given, names in (((1, 2), {}), ((), {"another": 1}), ((), {})):
+                with self.assertRaises(TypeError):
+                    getattr(one, name)(*given, **names)
+            self.assertEqual(one, other)
+        for name in OF_BENCH_WITHOUT:
+            self.assertEqual(list(inspect.signature(getattr(bench.Bench, name)).parameters), ["self"])
+            getattr(new_bench(), name)()
+            with self.assertRaises(TypeError):
+                getattr(new_bench(), name)(1)
+
     def test_all_of_the_interface(self):
-        taken = {(call.__module__, call.__qualname__) for call in WITHOUT + [call for call, _ in CALLS]}
+        calls = WITHOUT + [call for call, _ in CALLS]
+        calls += [getattr(bench.Bench, name) for name in [name for name, _ in OF_BENCH] + OF_BENCH_WITHOUT]
+        taken = {(call.__module__, call.__qualname__) for call in calls}
         listed = {
             "errors": "FaceError BadRow BadTurn BadPlace BadNumber OtherLength TooGreat BadText BadWay NothingLeft",
             "rows": "Row Row.at Row.place_of Row.backs Row.framed Row.inverse Row.backward onward seen renamed",
@@ -119,6 +167,11 @@ class Names(unittest.TestCase):
             "papers": "paper is_paper",
             "counts": "rows_of spread ring_spread farthest farthest_rows",
             "ways": "count_ways ways way_at way_number",
+            "freed": "free_distance free_way is_free_way",
+            "circles": "Circle Circle.rest Circle.turned_at Circle.run Circle.distance Circle.fewest",
+            "texts": "row_text turns_text read_row read_turns picture",
+            "bench": "Bench Bench.do Bench.do_all Bench.undo Bench.redo Bench.left Bench.wasted Bench.turnings "
+                     "Bench.trial tried",
         }
         expected = {("faceabout." + name, each) for name, names in listed.items() for each in names.split()}
         self.assertEqual(taken, expected)
