@@ -16,20 +16,24 @@ def all_turnings(many):
     return [(first, last) for first in range(many) for last in range(first, many)]
 
 
-def layers(start):
-    """All rows as long as this one, each with the layer in which a walk over all turnings meets it."""
-    met = {start: 0}
-    edge = [start]
-    turnings = all_turnings(len(start))
+def layers_from(starts, next_ones):
+    """All that a walk from these meets, each with the layer in which it is met first."""
+    met = {start: 0 for start in starts}
+    edge = list(starts)
     while edge:
         nearer, edge = edge, []
-        for waggons in nearer:
-            for turning in turnings:
-                behind = turned_waggons(waggons, turning)
+        for each in nearer:
+            for behind in next_ones(each):
                 if behind not in met:
-                    met[behind] = met[waggons] + 1
+                    met[behind] = met[each] + 1
                     edge.append(behind)
     return met
+
+
+def layers(start):
+    """All rows as long as this one, by a walk over all turnings."""
+    turnings = all_turnings(len(start))
+    return layers_from([start], lambda waggons: [turned_waggons(waggons, turning) for turning in turnings])
 
 
 def about(waggons):
@@ -39,18 +43,13 @@ def about(waggons):
 
 def layers_freed(start):
     """Point 41: as layers, where a row and that turned about as a whole are in one layer."""
-    met = {start: 0, about(start): 0}
-    edge = list(met)
-    while edge:
-        nearer, edge = edge, []
-        for waggons in nearer:
-            for turning in all_turnings(len(start)):
-                behind = turned_waggons(waggons, turning)
-                for each in (behind, about(behind)):
-                    if each not in met:
-                        met[each] = met[waggons] + 1
-                        edge.append(each)
-    return met
+    turnings = all_turnings(len(start))
+
+    def next_ones(waggons):
+        behind = [turned_waggons(waggons, turning) for turning in turnings]
+        return [each for row in behind for each in (row, about(row))]
+
+    return layers_from([start, about(start)], next_ones)
 
 
 def stored_waggons(waggons):
@@ -73,19 +72,9 @@ def turned_arc(stored, arc):
 
 
 def layers_around(start):
-    """All circles as long as this one, each with the layer in which a walk over all arcs meets it."""
-    met = {start: 0}
-    edge = [start]
+    """All circles as long as this one, by a walk over all arcs."""
     arcs = [(first, last) for first in range(len(start)) for last in range(len(start))]
-    while edge:
-        nearer, edge = edge, []
-        for stored in nearer:
-            for arc in arcs:
-                behind = turned_arc(stored, arc)
-                if behind not in met:
-                    met[behind] = met[stored] + 1
-                    edge.append(behind)
-    return met
+    return layers_from([start], lambda stored: [turned_arc(stored, arc) for arc in arcs])
 
 
 @lru_cache(maxsize=None)
